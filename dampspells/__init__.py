@@ -1,0 +1,1 @@
+"""Dampspells: coats of lacquer between damp spells."""

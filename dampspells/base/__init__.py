@@ -1,0 +1,1 @@
+"""Errors, fractions and lacquers, on which everything else rests."""

@@ -1,0 +1,1 @@
+"""Weathers and climates."""

@@ -1,0 +1,76 @@
+"""Slow, plain counts, straight from the words of the document; the tests compare the program with them."""
+
+from itertools import product
+from random import Random
+import re
+
+
+def all_signs(hours):
+    """The signs of all weathers of so many hours, in their order."""
+    return ["." + "".join(rest) for rest in product(".#", repeat=hours - 1)]
+
+
+def signs_up_to(hours):
+    return [signs for n in range(1, hours + 1) for signs in all_signs(n)]
+
+
+def spells(signs):
+    """(length of the run, length of the spell) of each spell."""
+    return [(len(run), len(spell)) for run, spell in re.findall(r"(\.+)(#+)", signs)]
+
+
+def most_damp(kinds, run):
+    """W(run)."""
+    fitting = [w for w, g in kinds if g <= run]
+    return max(fitting) if fitting else 0
+
+
+def is_of(kinds, signs):
+    return all(spell <= most_damp(kinds, run) for run, spell in spells(signs))
+
+
+def signs_of(kinds, hours):
+    return [signs for signs in all_signs(hours) if is_of(kinds, signs)]
+
+
+def dry_hours(signs):
+    return [at + 1 for at, sign in enumerate(signs) if sign == "."]
+
+
+def rows(a, b, signs):
+    """All rows of coats, from the shortest on."""
+    found = [[1]]
+    for row in found:
+        found.extend(row + [hour] for hour in dry_hours(signs) if a <= hour - row[-1] <= b)
+    return found
+
+
+def keepings(a, b, signs):
+    return [row for row in rows(a, b, signs) if row[-1] + b > len(signs)]
+
+
+def is_spoilt(a, b, signs):
+    return not keepings(a, b, signs)
+
+
+def last_reached(a, b, signs):
+    """The greatest hour of a row of coats, without listing the rows."""
+    seen = {1}
+    for hour in dry_hours(signs):
+        if any(hour - step in seen for step in range(a, b + 1)):
+            seen.add(hour)
+    return max(seen)
+
+
+def lacquer_pairs(most):
+    return [(a, b) for a in range(1, most) for b in range(a + 1, most + 1)]
+
+
+def some_kinds(seed, times, most_w, most_g, most_kinds=4):
+    """Lists of kinds, the same ones in each run of the tests, the empty one first."""
+    dice = Random(seed)
+    found = [[]]
+    while len(found) < times:
+        many = dice.randint(1, most_kinds)
+        found.append([(dice.randint(1, most_w), dice.randint(1, most_g)) for _ in range(many)])
+    return found

@@ -1,0 +1,1 @@
+"""What a lacquer and a climate make of each other."""

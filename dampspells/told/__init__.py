@@ -1,0 +1,1 @@
+"""What a lacquer makes of one told weather."""

@@ -1,0 +1,1 @@
+"""The texts of lacquers, climates and weathers."""

@@ -39,9 +39,13 @@ def dry_hours(signs):
 
 def rows(a, b, signs):
     """All rows of coats, from the shortest on."""
+    return step_rows(range(a, b + 1), signs)
+
+
+def step_rows(steps, signs):
     found = [[1]]
     for row in found:
-        found.extend(row + [hour] for hour in dry_hours(signs) if a <= hour - row[-1] <= b)
+        found.extend(row + [hour] for hour in dry_hours(signs) if hour - row[-1] in steps)
     return found
 
 
@@ -55,11 +59,32 @@ def is_spoilt(a, b, signs):
 
 def last_reached(a, b, signs):
     """The greatest hour of a row of coats, without listing the rows."""
+    return max(reached_by(range(a, b + 1), signs))
+
+
+def reached_by(steps, signs):
+    """The hours of the rows of coats, without listing the rows."""
     seen = {1}
     for hour in dry_hours(signs):
-        if any(hour - step in seen for step in range(a, b + 1)):
+        if any(hour - step in seen for step in steps):
             seen.add(hour)
-    return max(seen)
+    return sorted(seen)
+
+
+def spoils_steps(steps, signs):
+    """Point [23]: no row of coats is a keeping."""
+    return max(reached_by(steps, signs)) + max(steps) <= len(signs)
+
+
+def some_steps(seed, times, most):
+    """Step sets, the same ones in each run of the tests."""
+    dice = Random(seed)
+    return [sorted(dice.sample(range(1, most + 1), dice.randint(1, most))) for _ in range(times)]
+
+
+def in_their_order(keeping_rows):
+    """Point [19]: a row that has ended comes after one that goes on."""
+    return sorted(keeping_rows, key=lambda row: [*row, 1000])
 
 
 def lacquer_pairs(most):
@@ -74,3 +99,22 @@ def some_kinds(seed, times, most_w, most_g, most_kinds=4):
         many = dice.randint(1, most_kinds)
         found.append([(dice.randint(1, most_w), dice.randint(1, most_g)) for _ in range(many)])
     return found
+
+
+def need_of(kinds):
+    """The greatest g among the kinds that are not needless beside a different one."""
+    return max([g for w, g in kinds if not any((v, r) != (w, g) and v >= w and r <= g for v, r in kinds)], default=0)
+
+
+def sky(kinds, signs):
+    """Point [24]: the sky after the last hour."""
+    if signs[-1] == ".":
+        return ("dry", min(len(signs) - len(signs.rstrip(".")), max(1, need_of(kinds))))
+    run, spell = spells(signs)[-1]
+    return ("damp", most_damp(kinds, run) - spell)
+
+
+def stand(steps, kinds, signs):
+    """Point [24]: the stand after the last hour."""
+    lasts = reached_by(steps, signs)
+    return (sky(kinds, signs), tuple(x for x in range(max(steps)) if len(signs) - x in lasts))

@@ -46,11 +46,17 @@ def blame(lacquer, weather):
 
 def blame_holds(lacquer, weather, hours):
     """True if the list is strictly ascending and a blame of the weather, otherwise False."""
-    if not _ascends(hours) or not _are_dry(weather, hours) or 1 not in hours:
+    if not _ascends(hours) or not are_dry(weather, hours) or 1 not in hours:
         return False
     signs = weather.signs()
     closed = all([hour in hours for hour in _next_hours(lacquer, signs, hours)])
     return closed and hours[-1] + lacquer.b <= weather.hours
+
+
+def are_dry(weather, hours):
+    """True if all these hours are dry told hours, otherwise False."""
+    signs = weather.signs()
+    return all([1 <= hour <= len(signs) and signs[hour - 1] == DRY for hour in hours])
 
 
 def _reached_flags(lacquer, weather):
@@ -83,8 +89,3 @@ def _next_hours(lacquer, signs, hours):
 
 def _ascends(hours):
     return all([one < other for one, other in zip(hours, hours[1:])])
-
-
-def _are_dry(weather, hours):
-    signs = weather.signs()
-    return all([1 <= hour <= len(signs) and signs[hour - 1] == DRY for hour in hours])

@@ -1,0 +1,1 @@
+"""Webs of all that can come up with a set of steps."""

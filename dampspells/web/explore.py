@@ -1,0 +1,32 @@
+"""Goes through all stands that can come up, hour by hour.
+
+A web has two methods. `starts()` is the list of the pairs of a text of signs and the stand after it; the texts are in
+their order and equally long. `after(stand, sign)` is the stand after one more hour, None if the sign cannot follow, or
+`END` where the search ends.
+"""
+
+from dampspells.sky.weather import DAMP, DRY
+
+END = "end"
+
+
+def explore(web):
+    """A pair: the list of all stands in the order in which they come up, and None; or None, and the text to the end.
+
+    The text is the shortest one that leads to the end, and of several the first one.
+    """
+    starts = web.starts()
+    stands = [stand for _, stand in starts]
+    texts = {stand: text for text, stand in starts}
+    at = 0
+    while at < len(stands):
+        stand = stands[at]
+        for sign in (DRY, DAMP):
+            after = web.after(stand, sign)
+            if after == END:
+                return (None, texts[stand] + sign)
+            if after is not None and after not in texts:
+                texts[after] = texts[stand] + sign
+                stands.append(after)
+        at = at + 1
+    return (stands, None)

@@ -1,5 +1,6 @@
 """Slow, plain counts, straight from the words of the document; the tests compare the program with them."""
 
+from functools import lru_cache
 from itertools import product
 from random import Random
 import re
@@ -118,3 +119,100 @@ def stand(steps, kinds, signs):
     """Point [24]: the stand after the last hour."""
     lasts = reached_by(steps, signs)
     return (sky(kinds, signs), tuple(x for x in range(max(steps)) if len(signs) - x in lasts))
+
+
+def texts_after(kinds, signs, many):
+    """All texts of so many signs that the climate lets follow, in their order."""
+    found = [""]
+    for _ in range(many):
+        found = [text + sign for text in found for sign in ".#" if is_of(kinds, signs + text + sign)]
+    return found
+
+
+def worker_goes_on(steps, kinds, known, sight, last, heated, until):
+    """Point [30] by trying everything, as long as at most `until` hours are known.
+
+    The present hour is the last known one minus the sight. Returns the list of the choices.
+    """
+    return list(_goes_on(tuple(steps), tuple(kinds), known, sight, last, tuple(heated), until))
+
+
+@lru_cache(1_000_000)
+def _goes_on(steps, kinds, known, sight, last, heated, until):
+    now = len(known) - sight
+    told = []
+    if now - last in steps and (known[now - 1] == "." or now in heated):
+        told.append(("lay", now))
+    if now - last < max(steps):
+        told.append(("wait", last))
+    if len(known) >= until:
+        return tuple(word for word, _ in told)
+    # Hours that are heated do not matter any more when they have passed.
+    heated = tuple(hour for hour in heated if hour > now)
+    return tuple(word for word, coat in told
+                 if all(_goes_on(steps, kinds, known + sign, sight, coat, heated, until)
+                        for sign in _next_signs(kinds, known)))
+
+
+@lru_cache(1_000_000)
+def _next_signs(kinds, signs):
+    return texts_after(kinds, signs, 1)
+
+
+def forget():
+    """Gives back what the searches have kept."""
+    _goes_on.cache_clear()
+    _next_signs.cache_clear()
+
+
+def worker_is_sure(steps, kinds, sight, until):
+    return all(worker_goes_on(steps, kinds, "." + text, sight, 1, (), until)
+               for text in texts_after(kinds, ".", 1 + sight))
+
+
+def booker_goes_on(steps, kinds, known, sight, until):
+    """Point [29] by trying everything; the last coat was laid in the last known hour minus the sight."""
+    now = len(known) - sight
+    named = [step for step in steps if step <= sight and known[now + step - 1] == "."]
+    if len(known) >= until:
+        return bool(named)
+    return any(all(booker_goes_on(steps, kinds, known + text, sight, until)
+                   for text in texts_after(kinds, known, step)) for step in named)
+
+
+def booker_is_sure(steps, kinds, sight, until):
+    return all(booker_goes_on(steps, kinds, "." + text, sight, until) for text in texts_after(kinds, ".", sight))
+
+
+def habit_says(sight, rows, age, dry, ahead):
+    """Point [31], word for word."""
+    for row_age, row_dry, text, lay in rows:
+        if row_age in (0, age) and row_dry <= dry and re.fullmatch(re.escape(text).replace(r"\?", "."), ahead):
+            return lay
+    return True
+
+
+def habit_plays(sight, rows, steps, signs):
+    """Point [32]: the coats and the spoilt hour, or None."""
+    coats = [1]
+    for hour in range(2, len(signs) - sight + 1):
+        age = hour - coats[-1]
+        run = hour - 1 - signs.rfind("#", 0, hour)
+        if signs[hour - 1] == "." and age in steps:
+            if habit_says(sight, rows, age, run, signs[hour:hour + sight]):
+                coats.append(hour)
+        if coats[-1] != hour and age >= max(steps):
+            return coats, hour
+    return coats, None
+
+
+def some_habits(seed, times, most_sight=3, most_rows=6):
+    """(sight, rows) of habits, the same ones in each run of the tests."""
+    dice = Random(seed)
+    found = []
+    for _ in range(times):
+        sight = dice.randint(0, most_sight)
+        found.append((sight, [(dice.choice([0, 0, 1, 2, 3, 4]), dice.randint(1, 4),
+                               "".join(dice.choice("??.#") for _ in range(sight)), dice.random() < 0.3)
+                              for _ in range(dice.randint(0, most_rows))]))
+    return found

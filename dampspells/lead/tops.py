@@ -1,8 +1,8 @@
 """Greatest climates: each one lies above all climates of which something holds."""
 
-from dampspells.base.errors import BadNumber
 from dampspells.base.ratio import Ratio
 from dampspells.base.whole import ceil_div
+from dampspells.lead.sight import check_sight
 from dampspells.lead.verdict import kind_booking
 from dampspells.sky.climate import Climate
 from dampspells.sky.kinds import MOST_RUN
@@ -15,13 +15,13 @@ def greatest(lacquer):
 
 def greatest_seen(lacquer, sight):
     """The greatest sound climate with a lead of at most the sight."""
-    _check_sight(sight)
+    check_sight(sight)
     return Climate(_top_kinds(lacquer)[:sight // lacquer.a + 1])
 
 
 def greatest_booked(lacquer, sight):
     """The greatest sound climate whose kinds have booking numbers of at most the sight, or None."""
-    _check_sight(sight)
+    check_sight(sight)
     if sight < lacquer.a:
         return None
     kinds = []
@@ -54,8 +54,3 @@ def _top_kinds(lacquer):
     longest = lacquer.b - 1
     many = lacquer.spans(longest)
     return [(min(longest, j * lacquer.slack), (j - 1) * lacquer.a + 1) for j in range(1, many + 1)]
-
-
-def _check_sight(sight):
-    if sight < 0:
-        raise BadNumber("a sight is not negative")

@@ -31,7 +31,7 @@ def closed_ways(lacquer, weather):
 def keepings(lacquer, weather):
     """Yields the keepings as lists, in their order."""
     many = _ways_on(lacquer, weather)
-    pending = [([1], False)] if many[1] > 0 else []
+    pending = [([1], False)]
     while pending:
         row, whole = pending.pop()
         if whole:

@@ -5,9 +5,23 @@ their order and equally long. `after(stand, sign)` is the stand after one more h
 `END` where the search ends.
 """
 
+from dampspells.sky.follow import FIRST_SKY, next_sky
 from dampspells.sky.weather import DAMP, DRY
 
 END = "end"
+
+
+class SkyWeb:
+    """The skies of a climate; there is no end."""
+
+    def __init__(self, climate):
+        self.climate = climate
+
+    def starts(self):
+        return [(DRY, FIRST_SKY)]
+
+    def after(self, stand, sign):
+        return next_sky(self.climate, stand, sign)
 
 
 def explore(web):
@@ -30,3 +44,21 @@ def explore(web):
                 stands.append(after)
         at = at + 1
     return (stands, None)
+
+
+def count_texts(web, further):
+    """The number of the texts with so many signs more than those of the starts that do not lead to the end."""
+    counts = {stand: 1 for _, stand in web.starts()}
+    for _ in range(further):
+        counts = _one_sign_more(web, counts)
+    return sum(counts.values())
+
+
+def _one_sign_more(web, counts):
+    later = {}
+    for stand, many in counts.items():
+        for sign in (DRY, DAMP):
+            after = web.after(stand, sign)
+            if after is not None and after != END:
+                later[after] = later.get(after, 0) + many
+    return later

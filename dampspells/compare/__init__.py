@@ -1,0 +1,1 @@
+"""Comparisons of climates and of lacquers."""

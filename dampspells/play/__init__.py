@@ -1,0 +1,1 @@
+"""Workers who see some hours ahead."""

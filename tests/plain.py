@@ -92,6 +92,11 @@ def lacquer_pairs(most):
     return [(a, b) for a in range(1, most) for b in range(a + 1, most + 1)]
 
 
+def is_sound_pair(a, b, w, g):
+    """Point [10]: the kind (w, g) is sound for the numbers a and b."""
+    return w < b and g > (-(-w // (b - a)) - 1) * a
+
+
 def some_kinds(seed, times, most_w, most_g, most_kinds=4):
     """Lists of kinds, the same ones in each run of the tests, the empty one first."""
     dice = Random(seed)
@@ -119,6 +124,23 @@ def stand(steps, kinds, signs):
     """Point [24]: the stand after the last hour."""
     lasts = reached_by(steps, signs)
     return (sky(kinds, signs), tuple(x for x in range(max(steps)) if len(signs) - x in lasts))
+
+
+def long_signs(beginning, again, hours):
+    """The signs of the first hours of a long weather."""
+    signs = beginning
+    while len(signs) < hours:
+        signs += again
+    return signs[:hours]
+
+
+def some_long(seed, times, most):
+    """(beginning, round) of long weathers, the same ones in each run of the tests."""
+    dice = Random(seed)
+
+    def text(many):
+        return "".join(dice.choice("..#") for _ in range(many))
+    return [("." + text(dice.randint(0, most - 1)), text(dice.randint(1, most))) for _ in range(times)]
 
 
 def texts_after(kinds, signs, many):

@@ -5,19 +5,14 @@ from dampspells.base.lacquer import Lacquer
 from dampspells.compare.hardness import least_b, no_harder, parting_lacquer, sound_lacquers
 from dampspells.lead.verdict import is_sound
 from dampspells.sky.climate import Climate
-from tests.plain import lacquer_pairs, some_kinds
+from tests.plain import is_sound_pair, lacquer_pairs, some_kinds
 
 PAIRS = lacquer_pairs(12)
 SOME = some_kinds(131, 40, 12, 60) + [[(16, 1)], [(16, 120)], [(1, 1)], [(11, 1)], [(12, 120)], [(1, 120)]]
 
 
-def is_bad(a, b, w, g):
-    """Point [10]."""
-    return w >= b or g <= (-(-w // (b - a)) - 1) * a
-
-
 def sound_pairs(kinds):
-    return [(a, b) for a, b in PAIRS if not any(is_bad(a, b, w, g) for w, g in kinds)]
+    return [(a, b) for a, b in PAIRS if all(is_sound_pair(a, b, w, g) for w, g in kinds)]
 
 
 class Hardness(unittest.TestCase):
@@ -25,7 +20,7 @@ class Hardness(unittest.TestCase):
         self.assertEqual(least_b(Climate([(2, 2)]), 2), 4)
         for kinds in SOME:
             for a in range(1, 12):
-                least = next(b for b in range(a + 1, 100) if not any(is_bad(a, b, w, g) for w, g in kinds))
+                least = next(b for b in range(a + 1, 100) if all(is_sound_pair(a, b, w, g) for w, g in kinds))
                 self.assertEqual(least_b(Climate(kinds), a), least)
 
     def test_least_b_may_be_greater_than_12(self):

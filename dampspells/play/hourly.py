@@ -4,6 +4,7 @@ from dampspells.base.errors import BadHour
 from dampspells.play.safety import check_worker, lost_stands
 from dampspells.sky.follow import FIRST_SKY, all_skies, all_texts, following, next_skies, sky_after
 from dampspells.sky.member import check_member
+from dampspells.sky.warm import warmed_signs
 from dampspells.sky.weather import DRY
 
 MOST_SIGHT = 5
@@ -37,7 +38,7 @@ class HourWeb:
         now = weather.hours - self.sight
         if not 1 <= last < now:
             raise BadHour(f"the last coat before hour {now} was not laid in hour {last}")
-        signs = _heated_signs(weather, heated)[now - 1:]
+        signs = warmed_signs(weather.signs(), heated)[now - 1:]
         options = _options(self.steps, now - last, signs, sky_after(self.climate, weather))
         return [word for word, stand in options if stand not in self._lost]
 
@@ -80,8 +81,3 @@ def _options(steps, age, signs, sky):
     if age < steps.farthest:
         options.append((WAIT, (age, signs[1:], sky)))
     return options
-
-
-def _heated_signs(weather, heated):
-    """The signs of the weather, but dry ones for the heated hours."""
-    return "".join([DRY if hour in heated else sign for hour, sign in enumerate(weather.signs(), start=1)])

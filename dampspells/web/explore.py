@@ -48,17 +48,25 @@ def explore(web):
 
 def count_texts(web, further):
     """The number of the texts with so many signs more than those of the starts that do not lead to the end."""
+    later = {}
     counts = {stand: 1 for _, stand in web.starts()}
     for _ in range(further):
-        counts = _one_sign_more(web, counts)
+        for stand in counts:
+            if stand not in later:
+                later[stand] = _stands_after(web, stand)
+        counts = _one_sign_more(later, counts)
     return sum(counts.values())
 
 
-def _one_sign_more(web, counts):
-    later = {}
+def _stands_after(web, stand):
+    """The stands after one more hour from which the texts go on."""
+    stands = [web.after(stand, sign) for sign in (DRY, DAMP)]
+    return [after for after in stands if after is not None and after != END]
+
+
+def _one_sign_more(later, counts):
+    more = {}
     for stand, many in counts.items():
-        for sign in (DRY, DAMP):
-            after = web.after(stand, sign)
-            if after is not None and after != END:
-                later[after] = later.get(after, 0) + many
-    return later
+        for after in later[stand]:
+            more[after] = more.get(after, 0) + many
+    return more

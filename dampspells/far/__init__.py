@@ -1,0 +1,1 @@
+"""Many weathers, and weathers that go on for ever."""

@@ -1,0 +1,1 @@
+"""What mends the work: other signs, other numbers."""

@@ -6,6 +6,9 @@ from random import Random
 import re
 
 
+MARKS = {"c": "c", ".": ".", "#": "#", "o": "c.", "-": ".#", "x": "c#", "?": "c.#"}
+
+
 def all_signs(hours):
     """The signs of all weathers of so many hours, in their order."""
     return ["." + "".join(rest) for rest in product(".#", repeat=hours - 1)]
@@ -238,3 +241,31 @@ def some_habits(seed, times, most_sight=3, most_rows=6):
                                "".join(dice.choice("??.#") for _ in range(sight)), dice.random() < 0.3)
                               for _ in range(dice.randint(0, most_rows))]))
     return found
+
+
+def all_worlds(a, b, kinds, hours):
+    """Point [45]: the worlds of so many hours, in their order."""
+    return list(_all_worlds(a, b, tuple(kinds), hours))
+
+
+@lru_cache(10_000)
+def _all_worlds(a, b, kinds, hours):
+    return [world for world in map("".join, product("c", *["c.#"] * (hours - 1)))
+            if is_of(kinds, world.replace("c", ".")) and is_row_of(a, b, world)]
+
+
+def is_row_of(a, b, world):
+    """The hours with c are a keeping."""
+    coats = [at + 1 for at, letter in enumerate(world) if letter == "c"]
+    return coats[-1] + b > len(world) and all(a <= later - early <= b for early, later in zip(coats, coats[1:]))
+
+
+def fits(marks, world):
+    """Point [46]."""
+    return len(marks) == len(world) and all(letter in MARKS[mark] for mark, letter in zip(marks, world))
+
+
+def some_marks(seed, times, hours):
+    """Marks of diaries, the same ones in each run of the tests."""
+    dice = Random(seed)
+    return ["c" + "".join(dice.choice("???o-x.#c") for _ in range(hours - 1)) for _ in range(times)]

@@ -19,14 +19,6 @@ class Readme(unittest.TestCase):
                 exec(line, names)
         self.assertGreater(shown, 5)
 
-    def test_each_module_is_named(self):
-        helpers = {"base.whole", "sky.kinds", "sky.follow", "sky.warm", "lead.sight", "web.explore", "web.sizes",
-                   "play.hours", "play.safety", "mend.prices", "far.onward"}
-        for path in (ROOT / "dampspells").rglob("*.py"):
-            name = ".".join(path.relative_to(ROOT / "dampspells").with_suffix("").parts)
-            if not name.endswith("__init__") and name not in helpers:
-                self.assertIn(f"`dampspells.{name}`", README)
-
 
 if __name__ == "__main__":
     unittest.main()

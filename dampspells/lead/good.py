@@ -30,6 +30,19 @@ def leg(lacquer, climate, run, place):
     return coats
 
 
+def good_hours(lacquer, climate, lengths):
+    """The ascending list of the hours at good places, for runs and spells of these lengths in turn from hour 1 on.
+
+    No spell follows the run with which they end.
+    """
+    hours = []
+    start = 1
+    for run, spell in zip(lengths[::2], lengths[1::2]):
+        hours.extend([start + place - 1 for place in good_places(lacquer, climate, run)])
+        start = start + run + spell
+    return hours + list(range(start, sum(lengths) + 1))
+
+
 def _suffices(lacquer, damp, ahead):
     # From here on turns(ahead) coats can be laid before the spell, and each of them can last b hours.
     return lacquer.turns(ahead) * lacquer.b >= ahead + damp

@@ -23,7 +23,7 @@ def pace(lacquer, climate):
 def loss(lacquer, climate, n):
     """The loss of n coats."""
     check_sound(lacquer, climate)
-    _check_coat(n)
+    check_coat(n)
     return losses(lacquer, climate, n)[n]
 
 
@@ -45,7 +45,7 @@ def coats_sure(lacquer, climate, hour):
 def worst(lacquer, climate, n):
     """The worst weather for coat n."""
     check_sound(lacquer, climate)
-    _check_coat(n)
+    check_coat(n)
     sums = _greatest_sums(lacquer, climate, n)
     values = _values(lacquer, climate, sums, n)
     q = n + values.index(max(values))
@@ -60,15 +60,16 @@ def worst(lacquer, climate, n):
     return Weather(lengths)
 
 
+def check_coat(n):
+    """Raises `BadNumber` if n is not the number of a coat that is asked about."""
+    if not 0 <= n <= MOST_COATS:
+        raise BadNumber(f"the number of a coat is 0 to {MOST_COATS} here")
+
+
 def losses(lacquer, climate, most):
     """The losses of 0 to `most` coats, for a sound climate."""
     sums = _greatest_sums(lacquer, climate, most)
     return [max(_values(lacquer, climate, sums, n)) for n in range(most + 1)]
-
-
-def _check_coat(n):
-    if not 0 <= n <= MOST_COATS:
-        raise BadNumber(f"the number of a coat is 0 to {MOST_COATS} here")
 
 
 def _pieces(lacquer, climate):

@@ -13,7 +13,7 @@ MOST_SIGHT = 7
 
 def sure_booking(steps, climate, sight):
     """True if a booker with this sight is sure, otherwise False."""
-    check_worker(steps, climate, sight, MOST_SIGHT)
+    check_worker(steps.farthest, climate, sight, MOST_SIGHT)
     lost = lost_stands(_moves(steps, climate, sight))
     firsts = [_bookings(steps, ahead, sky) for ahead, sky in following(climate, FIRST_SKY, sight)]
     return all([any([stand not in lost for stand in stands]) for stands in firsts])

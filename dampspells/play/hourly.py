@@ -20,7 +20,7 @@ class HourWeb:
     """
 
     def __init__(self, steps, climate, sight):
-        check_worker(steps, climate, sight, MOST_SIGHT)
+        check_worker(steps.farthest, climate, sight, MOST_SIGHT)
         self.steps = steps
         self.climate = climate
         self.sight = sight
@@ -50,7 +50,7 @@ def sure_hourly(steps, climate, sight):
 
 def least_sight(steps, climate, most):
     """The least sight of at most `most` with which an hour-worker is sure, or None."""
-    check_worker(steps, climate, most, MOST_SIGHT)
+    check_worker(steps.farthest, climate, most, MOST_SIGHT)
     for sight in range(most + 1):
         if sure_hourly(steps, climate, sight):
             return sight

@@ -5,10 +5,10 @@ from dampspells.lead.sight import check_sight
 from dampspells.web.sizes import check_small
 
 
-def check_worker(steps, climate, sight, most_sight):
+def check_worker(farthest, climate, sight, most_sight):
     """Raises `BadNumber` if the sight is negative, then `TooLarge` if anything is too large for a game."""
     check_sight(sight)
-    check_small(steps.farthest, climate)
+    check_small(farthest, climate)
     if sight > most_sight:
         raise TooLarge(f"the sight is greater than {most_sight}")
 

@@ -39,7 +39,7 @@ class Weather:
             raise BadWeather(f"the signs of a weather are 1 to {MOST_HOURS}, and the first one is dry")
         if signs.count(DRY) + signs.count(DAMP) != len(signs):
             raise BadWeather("a sign is neither dry nor damp")
-        return Weather(_lengths_of(signs))
+        return Weather(lengths_of(signs))
 
     def signs(self):
         """The text of the signs."""
@@ -81,11 +81,8 @@ class Weather:
             raise BadHour(f"hour {hour} is not told")
 
 
-def _ends_damp(lengths):
-    return len(lengths) % 2 == 0
-
-
-def _lengths_of(signs):
+def lengths_of(signs):
+    """The lengths of the runs and spells in turn."""
     lengths = []
     last = None
     for sign in signs:
@@ -95,3 +92,7 @@ def _lengths_of(signs):
             lengths.append(1)
         last = sign
     return lengths
+
+
+def _ends_damp(lengths):
+    return len(lengths) % 2 == 0

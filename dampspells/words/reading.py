@@ -1,4 +1,4 @@
-"""Reads lacquers, climates and weathers."""
+"""Reads lacquers, climates, weathers and numbers."""
 
 from dampspells.base.errors import BadText
 from dampspells.base.lacquer import Lacquer
@@ -28,7 +28,17 @@ def read_climate(text):
 
 def read_weather(text):
     """The weather with this text."""
-    return Weather(_read_numbers(text, (",",)))
+    return Weather(read_numbers(text))
+
+
+def read_numbers(text):
+    """The list of the numbers of a text `NUMBER,NUMBER,..`."""
+    return _read_numbers(text, (",",))
+
+
+def read_number(text):
+    """The number of a text that is one NUMBER."""
+    return _read_numbers(text, (None,))[0]
 
 
 def _read_numbers(text, marks):

@@ -1,0 +1,1 @@
+"""Work that is only half seen, or told late."""

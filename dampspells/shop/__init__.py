@@ -1,0 +1,1 @@
+"""A desk, a language and columns for those who do the work."""

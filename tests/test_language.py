@@ -152,6 +152,30 @@ class Language(unittest.TestCase):
             # Classes of the package have __eq__ and operators, so builtins take lists.
             self.assertNotIsInstance(node, ast.GeneratorExp, self.at(path, node))
 
+    def test_views_are_iterated_at_once(self):
+        takers = ["list", "tuple", "dict", "sorted", "sum", "any", "all", "enumerate", "zip", "min", "max"]
+        for path, tree in self.trees.items():
+            for node in ast.walk(tree):
+                iterated = [getattr(node, "iter", None)]
+                if isinstance(node, ast.Call) and isinstance(node.func, ast.Name):
+                    iterated = node.args[:1] if node.func.id in takers else []
+                for part in ast.iter_child_nodes(node):
+                    name = isinstance(part, ast.Call) and (getattr(part.func, "id", None) or part.func.attr)
+                    if name in ("zip", "enumerate", "reversed", "items", "keys", "values"):
+                        self.assertIn(part, iterated, self.at(path, part))
+
+    def test_identity(self):
+        for path, node in self.nodes:
+            if isinstance(node, ast.Compare) and isinstance(node.ops[0], (ast.Is, ast.IsNot)):
+                self.assertIn(ast.unparse(node.comparators[0]), ("None", "True", "False"), self.at(path, node))
+
+    def test_names_are_methods_or_attributes(self):
+        methods = {part.name for _, node in self.nodes if isinstance(node, ast.ClassDef)
+                   for part in node.body if isinstance(part, ast.FunctionDef)}
+        attributes = {node.attr for _, node in self.nodes
+                      if isinstance(node, ast.Attribute) and isinstance(node.ctx, ast.Store)}
+        self.assertEqual(methods & attributes, set())
+
     def test_module_level(self):
         for path, tree in self.trees.items():
             for at, node in enumerate(tree.body):
